@@ -1,0 +1,1 @@
+"""Midlanes: running rows led over into better rows and back."""

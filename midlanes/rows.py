@@ -24,6 +24,9 @@ PARTS = {
     "back": ("box",),
 }
 
+# The words whose rows put a number reckoned from the frame's own boxes into one of them.
+RECKONINGS = ("put", "copy", "plus", "less", "times")
+
 
 def nexts(rows, at):
     row = rows[at]
@@ -34,6 +37,11 @@ def nexts(rows, at):
     if row[0] in ("zero", "below"):
         return sorted(set([row[2], at + 1]))
     return [at + 1]
+
+
+def row_of(program, frame):
+    """The row at which a frame, or a sign frame, stands."""
+    return program[frame[0]][2][frame[1]]
 
 
 def formed(program):

@@ -144,6 +144,18 @@ class Language(unittest.TestCase):
                 for part in node.body:
                     self.assertIsInstance(part, (ast.FunctionDef, ast.Expr, ast.Pass), f"L5 {where}")
 
+    def test_methods_and_values(self):
+        methods = []
+        values = []
+        for node, where in self.each_node():
+            if isinstance(node, ast.ClassDef):
+                own = [part.name for part in node.body if isinstance(part, ast.FunctionDef)]
+                self.assertEqual(len(own), len(set(own)), f"L18 {where}")
+                methods += own
+            if isinstance(node, ast.Attribute) and isinstance(node.ctx, ast.Store):
+                values.append(node.attr)
+        self.assertEqual(set(methods) & set(values), set(), "L18")
+
     def test_names(self):
         pythons_own = set(dir(builtins))
         of_values = attributes_of_values()

@@ -1,6 +1,6 @@
 """Plain runs: a hand goes a program's rows, one by one."""
 
-from midlanes.rows import RECKONINGS, row_of
+from midlanes.rows import RECKONINGS, goes_to_row, row_of
 
 MOST_FRAMES = 20
 
@@ -101,8 +101,6 @@ def row_behind(row, at, boxes):
     """The row of its frame that comes behind this one, which is no call and no back."""
     if row[0] == "jump":
         return row[1]
-    if row[0] == "zero" and boxes[row[1]] == 0:
-        return row[2]
-    if row[0] == "below" and boxes[row[1]] < 0:
+    if row[0] in ("zero", "below") and goes_to_row(row, boxes[row[1]]):
         return row[2]
     return at + 1

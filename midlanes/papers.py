@@ -1,7 +1,7 @@
 """Papers: sign frames, tuples (f, at, forms) with a form for each box, and the rows that can be gone with them."""
 
 from midlanes.forms import is_plain, less, of_word, plain, plus, put_in, times
-from midlanes.rows import RECKONINGS, row_of
+from midlanes.rows import RECKONINGS, goes_to_row, row_of
 
 MOST_SIGN_FRAMES = 4
 
@@ -59,8 +59,7 @@ def at_row(frames, at):
 def tested(frames, row):
     """The sign frames behind a zero or below whose box has a plain form."""
     number = frames[-1][2][row[1]][0]
-    led = number == 0 if row[0] == "zero" else number < 0
-    return at_row(frames, row[2] if led else frames[-1][1] + 1)
+    return at_row(frames, row[2] if goes_to_row(row, number) else frames[-1][1] + 1)
 
 
 def called(program, row, forms):

@@ -44,6 +44,11 @@ def row_of(program, frame):
     return program[frame[0]][2][frame[1]]
 
 
+def goes_to_row(row, number):
+    """Whether a zero or below goes on at its row t where its box has this number."""
+    return number == 0 if row[0] == "zero" else number < 0
+
+
 def formed(program):
     if not (isinstance(program, list) and 1 <= len(program) <= MOST_DEFS):
         return False

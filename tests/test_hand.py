@@ -7,70 +7,10 @@ import unittest
 from midlanes.hand import Hand, run
 from midlanes.rows import formed
 
+from helpers import Reckoner, fields
+
 GREATEST = 10 ** 60 - 1
 WORDS = ("put", "copy", "plus", "less", "times", "take", "tell", "jump", "zero", "below", "call", "back")
-
-
-class Reckoner:
-    """A run told in another way than the package's own: each row makes all its state anew, from tuples."""
-
-    def __init__(self, program, inputs):
-        self.program = program
-        self.frames = ((0, 0, (0,) * program[0][1]),)
-        self.news = ()
-        self.gone = 0
-        self.left = tuple(inputs)
-        self.end = None
-
-    def row(self):
-        f, at, boxes = self.frames[-1]
-        return self.program[f][2][at]
-
-    def go(self):
-        if self.end is not None:
-            return
-        word, *parts = self.row()
-        f, at, boxes = self.frames[-1]
-        if word == "back" and len(self.frames) == 1:
-            self.end = ("back", boxes[parts[0]])
-        elif word == "take" and not self.left:
-            self.end = ("dry", f, at)
-        elif word == "call" and len(self.frames) == 20:
-            self.end = ("deep", f, at)
-        else:
-            self.gone += 1
-            self.do(word, parts, f, at, boxes)
-
-    def do(self, word, parts, f, at, boxes):
-        older = self.frames[:-1]
-        if word == "call":
-            p, g, qs = parts
-            handed = tuple(boxes[q] for q in qs)
-            self.frames += ((g, 0, handed + (0,) * (self.program[g][1] - len(qs))),)
-            return
-        if word == "back":
-            g, wait, others = older[-1]
-            p = self.program[g][2][wait][1]
-            self.frames = older[:-1] + ((g, wait + 1, others[:p] + (boxes[parts[0]],) + others[p + 1:]),)
-            return
-        if word == "tell":
-            self.news += (boxes[parts[0]],)
-        gets = {"put": lambda: parts[1], "copy": lambda: boxes[parts[1]], "take": lambda: self.left[0],
-                "plus": lambda: boxes[parts[1]] + boxes[parts[2]], "less": lambda: boxes[parts[1]] - boxes[parts[2]],
-                "times": lambda: boxes[parts[1]] * parts[2]}
-        if word in gets:
-            boxes = boxes[:parts[0]] + (gets[word](),) + boxes[parts[0] + 1:]
-        if word == "take":
-            self.left = self.left[1:]
-        leads = {"jump": lambda: True, "zero": lambda: boxes[parts[0]] == 0, "below": lambda: boxes[parts[0]] < 0}
-        goes = word in leads and leads[word]()
-        self.frames = older + ((f, parts[-1] if goes else at + 1, boxes),)
-
-
-def fields(hand):
-    """All of a hand's state but its program, as tuples."""
-    return (tuple((f, at, tuple(boxes)) for f, at, boxes in hand.frames), tuple(hand.news), hand.gone, tuple(hand.left),
-            hand.end)
 
 
 def random_row(rng, boxes, count, takes):

@@ -7,52 +7,16 @@ from midlanes.judge import fault
 from midlanes.papers import silent
 from midlanes.rows import formed
 
+from helpers import BASE, LEAVE, LOOP, MAIN, num, word, words
+
 HUGE = 10 ** 300 - 1
 BEYOND = (-1, -2, -HUGE, HUGE)
-
-
-def num(n):
-    return (n, ())
-
-
-def word(w):
-    return (0, ((1, w),))
-
-
-def words(many):
-    return tuple(word(w) for w in range(many))
-
-
 A, B, C = words(3)
-LEAVE = ("leave",)
-
-# A row that leads to itself: any number of rows may be gone there, and any edge leads to a like stand.
-LOOP = [(0, 1, [("jump", 0)])]
 
 
 def loop_stand(rows, k, many=1):
     return (many, [(0, 0, (A,))], ("go", (rows, words(many), k)))
 
-
-MAIN = [
-    (0, 3, [("put", 1, 5), ("plus", 0, 0, 1), ("take", 2), ("tell", 0), ("zero", 2, 7), ("call", 1, 1, (0, 2)),
-            ("jump", 0), ("back", 0)]),
-    (2, 2, [("less", 0, 0, 1), ("below", 0, 3), ("back", 0), ("times", 0, 0, -1), ("back", 0)]),
-]
-A_LESS_B = (0, ((1, 0), (-1, 1)))
-B_LESS_A = (0, ((-1, 0), (1, 1)))
-# A lane without a fault that has each of the deeds.
-BASE = [
-    (3, [(0, 0, (A, B, C))], ("go", (2, ((5, ((1, 0),)), C), 1))),
-    (2, [(0, 2, (A, num(5), B))], ("take", (0, (A, C), 2))),
-    (2, [(0, 3, (A, num(5), B))], ("tell", (0, (A, B), 3))),
-    (2, [(0, 4, (A, num(5), B))], ("test", (0, (A, B), 4), (0, (A, B), 5))),
-    (2, [(0, 7, (A, num(5), B))], LEAVE),
-    (2, [(0, 5, (A, num(5), B))], ("hold", 1, 3, (0, (A,), 7))),
-    (2, [(0, 5, (A, num(5), B)), (1, 1, (A_LESS_B, B))],
-     ("test", (3, (A, B_LESS_A, B), 0), (2, (A, A_LESS_B, B), 0))),
-    (1, [(0, 5, (A, num(5), num(3)))], ("go", (2, (A, num(3)), 6))),
-]
 
 # Things that are no forms of two words, whatever they stand in.
 NO_FORMS = (

@@ -5,29 +5,11 @@ import random
 import unittest
 
 from midlanes.judge import fault
-from midlanes.papers import silent
 from midlanes.rows import formed
 
+from helpers import Grower, LOOP, MAIN, random_program
+
 HUGE = 10 ** 300 - 1
-LEAVE = ("leave",)
-LOOP = [(0, 1, [("jump", 0)])]
-MIXED = [
-    (0, 3, [("put", 1, 5), ("plus", 0, 0, 1), ("take", 2), ("tell", 0), ("zero", 2, 7), ("call", 1, 1, (0, 2)),
-            ("jump", 0), ("back", 0)]),
-    (2, 2, [("less", 0, 0, 1), ("below", 0, 3), ("back", 0), ("times", 0, 0, -1), ("back", 0)]),
-]
-
-
-def num(n):
-    return (n, ())
-
-
-def word(w):
-    return (0, ((1, w),))
-
-
-def words(many):
-    return tuple(word(w) for w in range(many))
 
 
 def worth_of(form, numbers):
@@ -159,122 +141,6 @@ class Referee:
         return found
 
 
-class Grower:
-    """Makes lanes of all kinds of stands, right ones for the most part."""
-
-    def __init__(self, rng, program, most):
-        self.rng = rng
-        self.program = program
-        self.most = most
-        f = rng.randrange(len(program))
-        self.papers = [(program[f][1], [(f, rng.randrange(len(program[f][2])), words(program[f][1]))])]
-
-    def lane(self):
-        deeds = []
-        while len(deeds) < len(self.papers):
-            deeds.append(self.deed(*self.papers[len(deeds)]) or LEAVE)
-        return [(many, paper, deed) for (many, paper), deed in zip(self.papers, deeds)]
-
-    def put_in(self, form, forms):
-        numbers = {}
-        c = form[0]
-        for a, w in form[1]:
-            c += a * forms[w][0]
-            for b, v in forms[w][1]:
-                numbers[v] = numbers.get(v, 0) + a * b
-        return (c, tuple((numbers[v], v) for v in sorted(numbers) if numbers[v]))
-
-    def edge(self, frames, many, least):
-        """An edge from these sign frames by some silent rows, or None where no stand may be added."""
-        rows = 0
-        for trial in range(self.rng.choice([least, 1, 3, 6])):
-            behind = silent(self.program, frames)
-            if behind is not None:
-                rows += 1
-                frames = behind
-        paper, moves = self.generalized(frames, many)
-        stand = (len(moves), paper)
-        if stand not in self.papers:
-            if len(self.papers) >= self.most:
-                return None
-            self.papers.append(stand)
-        return (rows, tuple(moves), self.papers.index(stand))
-
-    def generalized(self, frames, many):
-        """A paper that the sign frames are one of, and the moves that make it these."""
-        way = self.rng.choice(["same", "words", "all", "all"])
-        if way == "same" and many <= 40:
-            return frames, list(words(many))
-        moves = []
-        paper = []
-        for f, at, forms in frames:
-            told = []
-            for form in forms:
-                if way == "words" and form[1] == () and abs(form[0]) < 10:
-                    told.append(form)
-                else:
-                    told.append((3, ((1, len(moves)),)) if self.rng.random() < 0.1 else word(len(moves)))
-                    moves.append((form[0] - told[-1][0], form[1]))
-            paper.append((f, at, tuple(told)))
-        return paper, moves
-
-    def deed(self, many, paper):
-        f, at, forms = paper[-1]
-        row = self.program[f][2][at]
-        moved = lambda to, boxes: paper[:-1] + [(f, to, boxes)]
-        if self.rng.random() < 0.15 and many > 0:
-            w, n = self.rng.randrange(many), self.rng.choice([0, 1, -1, 7])
-            held = list(words(many))
-            held[w] = num(n)
-            known = [(g, wait, tuple(self.put_in(form, held) for form in others)) for g, wait, others in paper]
-            edge = self.edge(known, many, 0)
-            return edge and ("hold", w, n, edge)
-        if row[0] in ("zero", "below"):
-            yes = self.edge(moved(row[2], forms), many, 0)
-            no = self.edge(moved(at + 1, forms), many, 0)
-            return yes and no and ("test", yes, no)
-        if row[0] == "tell":
-            edge = self.edge(moved(at + 1, forms), many, 0)
-            return edge and ("tell", edge)
-        if row[0] == "take":
-            edge = self.edge(moved(at + 1, forms[:row[1]] + (word(many),) + forms[row[1] + 1:]), many + 1, 0)
-            return edge and ("take", edge)
-        if silent(self.program, paper) is None:
-            return None
-        edge = self.edge(paper, many, self.rng.choice([0, 1, 1, 1]))
-        return edge and ("go", edge)
-
-
-def random_row(rng, boxes, count, takes):
-    box = lambda: rng.randrange(boxes)
-    name = rng.choice(("put", "copy", "plus", "less", "times", "take", "tell", "zero", "below", "call") * 3
-                      + ("jump", "back"))
-    if name == "call":
-        f = rng.randrange(len(takes))
-        return (name, box(), f, tuple(box() for k in range(takes[f])))
-    if name == "put":
-        return (name, box(), rng.choice([0, 1, -1, 5]))
-    if name == "times":
-        return (name, box(), box(), rng.choice([0, 1, -1, 2, -99]))
-    if name == "jump":
-        return (name, rng.randrange(count))
-    if name in ("zero", "below"):
-        return (name, box(), rng.randrange(count))
-    return (name, *[box() for k in range({"copy": 2, "plus": 3, "less": 3}.get(name, 1))])
-
-
-def random_program(rng):
-    boxes = [rng.randint(1, 3) for k in range(rng.randint(1, 3))]
-    takes = [0] + [rng.randint(0, many) for many in boxes[1:]]
-    program = []
-    for f, many in enumerate(boxes):
-        count = rng.randint(3, 8)
-        rows = [random_row(rng, many, count, takes) for at in range(count - 1)]
-        last = rng.choice([("back", rng.randrange(many)), ("jump", rng.randrange(count)), ("jump", 0)])
-        program.append((takes[f], many, rows + [last]))
-    return program
-
-
 def other_number(rng, n):
     return rng.choice([n + 1, n - 1, n + 1, n - 1, -n, 0, 1, rng.choice([n + 200, 40, 41, HUGE, -HUGE])])
 
@@ -395,7 +261,7 @@ class Any(unittest.TestCase):
                 name = rng.choice(["go", "test", "tell", "take", "hold", "leave", "", "stay"])
                 deed = (name,) + tuple(part() for k in range(rng.choice([0, 0, 1, 1, 1, 2, 3, 4])))
                 lane.append((number(), paper, deed))
-            for program in (LOOP, MIXED):
+            for program in (LOOP, MAIN):
                 self.assert_judged(program, lane)
 
 
